@@ -25,23 +25,33 @@ func TestNoCallPanics(t *testing.T) {
 					t.Errorf("P1: Fold(%d, %d, %.20q): a result beside the error %d", a, b, text, e)
 				}
 			}
-			h, e := garrison.New(1)
-			if e != api.OK {
-				t.Fatalf("New(1): %d", e)
-			}
-			callAll(h, a, text)
+			callAll(newHost(t, 1), a, text)
+			callAll(allPhases(t), a, text)
 		}
 		garrison.New(a)
 	}
 }
 
+// allPhases: a host with a match that is open, one that goes, one that is paused and one that is over, and room for another.
+func allPhases(t *testing.T) *garrison.Host {
+	h := newHost(t, 5)
+	open(t, h, 0, 2)
+	going(t, h, 1, 3)
+	must(t, "Pause", h.Pause(going(t, h, 2, 4), "ann", true))
+	over(t, h, 2)
+	return h
+}
+
 func callAll(h *garrison.Host, number int, text string) {
 	h.Create(number, 2)
 	h.Create(0, number)
-	h.Join(number, text)
-	h.Leave(number, text)
-	h.Pause(number, text, true)
-	h.Submit(number, text, number, text)
+	for _, name := range []string{text, "ann"} {
+		h.Join(number, name)
+		h.Pause(number, name, true)
+		h.Pause(number, name, false)
+		h.Submit(number, name, number, text)
+		h.Leave(number, name)
+	}
 	h.Tick()
 	h.Tick(number)
 	h.Tick(oddNumbers...)

@@ -111,6 +111,20 @@ func (s *State) Over() bool {
 	return count <= 1
 }
 
+// Turn tells how many turns were done.
+func (s *State) Turn() int {
+	return s.turn
+}
+
+// Winner tells who is in when the match is over, or -1.
+func (s *State) Winner() int {
+	if !s.Over() {
+		return -1
+	}
+	in := s.playersIn()
+	return slices.Index(in[:], true)
+}
+
 // playersIn tells of each player whether it has its Base yet.
 func (s *State) playersIn() [api.MaxPlayers]bool {
 	var in [api.MaxPlayers]bool

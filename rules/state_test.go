@@ -22,3 +22,23 @@ func TestDoLeavesTheTurnAlone(t *testing.T) {
 		t.Errorf("P2: the turn was written into: %v", room)
 	}
 }
+
+func TestWinner(t *testing.T) {
+	for _, c := range []struct {
+		quits []int
+		want  int
+	}{
+		{[]int{}, -1}, {[]int{1}, -1}, {[]int{1, 3}, -1},
+		{[]int{0, 1, 2}, 3}, {[]int{1, 2, 3}, 0}, {[]int{3, 0, 1}, 2}, {[]int{2, 0, 3}, 1},
+		{[]int{0, 1, 2, 3}, -1},
+	} {
+		s, turn := Begin(0, 4), []wire.Command{}
+		for _, p := range c.quits {
+			turn = append(turn, wire.Command{Player: p})
+		}
+		s.Do(turn)
+		if got := s.Winner(); got != c.want || s.Turn() != 1 {
+			t.Errorf("P8: %v give up: the winner is %d, the turn %d, want %d", c.quits, got, s.Turn(), c.want)
+		}
+	}
+}

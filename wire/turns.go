@@ -30,6 +30,14 @@ func ReadTurns(text string) ([][]Command, bool) {
 	return turns, true
 }
 
+// ReadCommand reads the bytes of one command; false, if they are not.
+func ReadCommand(text string) (Command, bool) {
+	if len(text) != commandSize {
+		return Command{}, false
+	}
+	return readCommand(text), true
+}
+
 func readCommands(text string) []Command {
 	var list []Command
 	for at := 0; at < len(text); at += commandSize {

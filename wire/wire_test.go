@@ -118,3 +118,14 @@ func TestGivesUp(t *testing.T) {
 		}
 	}
 }
+
+func TestReadCommand(t *testing.T) {
+	if c, ok := ReadCommand("\x01\x02\x03\x04\xff"); !ok || c != (Command{Player: 1, Unit: 2, What: 3, X: 4, Y: 255}) {
+		t.Errorf("Words: a command: %v, %t", c, ok)
+	}
+	for n := range 12 {
+		if c, ok := ReadCommand(strings.Repeat("\x07", n)); ok != (n == 5) || !ok && c != (Command{}) {
+			t.Errorf("P6: %d bytes: %v, %t", n, c, ok)
+		}
+	}
+}

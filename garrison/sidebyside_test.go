@@ -1,0 +1,129 @@
+package garrison_test
+
+import (
+	"slices"
+	"strings"
+	"sync"
+	"testing"
+
+	"garrison/api"
+	"garrison/garrison"
+)
+
+// TestCreateSideBySide: no number is given out twice, and none is left out.
+func TestCreateSideBySide(t *testing.T) {
+	for range 50 {
+		h := newHost(t, 8)
+		var numbers [20]int
+		var group sync.WaitGroup
+		for k := range numbers {
+			group.Go(func() {
+				n, e := h.Create(k, 2)
+				if e == api.ErrFull {
+					n = 8
+				}
+				numbers[k] = n
+			})
+		}
+		group.Wait()
+		list := numbers[:]
+		slices.Sort(list)
+		if want := append([]int{0, 1, 2, 3, 4, 5, 6, 7}, slices.Repeat([]int{8}, 12)...); !slices.Equal(list, want) {
+			t.Fatalf("P4: the numbers of matches: %v", list)
+		}
+	}
+}
+
+// TestMatchesSideBySide: what befalls a match hangs on its own calls, whatever is done to others at the same time.
+func TestMatchesSideBySide(t *testing.T) {
+	const rounds = 60
+	h := newHost(t, 8)
+	for seed := range 8 {
+		going(t, h, seed, 2)
+	}
+	var played [8][]string
+	var group sync.WaitGroup
+	for m := range 8 {
+		group.Go(func() {
+			for seq := 1; seq <= rounds; seq++ {
+				c := []string{"0 2 1 2 2", "0 2 3 2 1", "0 2 1 1 1", "0 1 4 1 0"}[(seq+m)%4]
+				h.Submit(m, "ann", seq, bytesOf(c))
+				h.Tick(m)
+				h.Look(m)
+				h.State((m + 1) % 8)
+				h.Hash((m+2)%8, seq)
+				played[m] = append(played[m], turns(c))
+			}
+		})
+	}
+	group.Wait()
+	for m := range 8 {
+		checkPlayed(t, "side by side", h, m, m, 2, played[m]...)
+	}
+}
+
+// TestTicksSideBySide: each tick seals one turn of each match, and each command stands in one turn.
+func TestTicksSideBySide(t *testing.T) {
+	h := newHost(t, 8)
+	for seed := range 8 {
+		going(t, h, seed, 4)
+	}
+	must(t, "Pause", h.Pause(7, "ann", true))
+	taken := make([]int, len(names))
+	var group sync.WaitGroup
+	for range 10 {
+		group.Go(func() {
+			for range 10 {
+				h.Tick()
+				h.Tick(3, 1)
+			}
+		})
+	}
+	for p, name := range names {
+		group.Go(func() { taken[p] = submitAll(h, name, p) })
+	}
+	group.Wait()
+	for m, want := range []int{100, 200, 100, 200, 100, 100, 100, 0} {
+		if v := look(t, h, m); v.Turn != want {
+			t.Errorf("P7: match %d has turn %d, want %d", m, v.Turn, want)
+		}
+	}
+	h.Tick()
+	for p, name := range names {
+		if e := h.Submit(0, name, taken[p]+1, string([]byte{byte(p), 9, 9, 9, 9})); e != api.OK {
+			t.Errorf("P6: %s: %d commands were taken, and the next is answered %d", name, taken[p], e)
+		}
+	}
+	checkLook(t, "side by side", h, 0, api.View{Phase: api.Goes, Players: 4, Turn: 101, Waiting: 4, Winner: -1})
+}
+
+// submitAll submits commands that do nothing, and tells how many were taken.
+func submitAll(h *garrison.Host, name string, player int) int {
+	taken := 0
+	for range 500 {
+		if h.Submit(0, name, taken+1, string([]byte{byte(player), 0, 9, 0, 0})) == api.OK {
+			taken++
+		}
+	}
+	return taken
+}
+
+// TestAnswersHangOnCalls: the same calls on two hosts are answered alike.
+func TestAnswersHangOnCalls(t *testing.T) {
+	var first string
+	for k := range 5 {
+		h := newHost(t, 4)
+		for seed := range 4 {
+			going(t, h, seed, 2+seed%3)
+		}
+		submit(t, h, 1, map[string]int{}, "2 6 1 5 2,0 2 1 2 2,1 4 1 5 5")
+		must(t, "Leave", h.Leave(2, "dan"))
+		must(t, "Tick", h.Tick())
+		must(t, "Tick", h.Tick(3, 0))
+		if s := snapshot(h); k == 0 {
+			first = s
+		} else if s != first || strings.Count(s, "\n") != 4 {
+			t.Fatalf("P2: the same calls are answered otherwise:\n%s\n%s", first, s)
+		}
+	}
+}
