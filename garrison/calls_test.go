@@ -27,6 +27,7 @@ func TestNoCallPanics(t *testing.T) {
 			}
 			callAll(newHost(t, 1), a, text)
 			callAll(allPhases(t), a, text)
+			callAll(allWatched(t), a, text)
 		}
 		garrison.New(a)
 	}
@@ -39,6 +40,15 @@ func allPhases(t *testing.T) *garrison.Host {
 	going(t, h, 1, 3)
 	must(t, "Pause", h.Pause(going(t, h, 2, 4), "ann", true))
 	over(t, h, 2)
+	return h
+}
+
+// allWatched: the same, with a watcher of each match, by the match's number.
+func allWatched(t *testing.T) *garrison.Host {
+	h := allPhases(t)
+	for match := range 4 {
+		watch(t, h, match, match)
+	}
 	return h
 }
 
@@ -59,7 +69,9 @@ func callAll(h *garrison.Host, number int, text string) {
 	h.State(number)
 	h.Hash(number, number)
 	h.Watch(number)
-	h.Poll(number, number)
+	for _, most := range oddNumbers {
+		h.Poll(number, most)
+	}
 }
 
 func TestListsAreLeftAlone(t *testing.T) {

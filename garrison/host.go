@@ -10,10 +10,12 @@ import (
 	"garrison/rules"
 )
 
-// Host hosts matches. Its calls may be made at the same time: a room is filled once, and a match minds its own mutex.
+// Host hosts matches. Its calls may be made at the same time: a room is filled once, and so is a watcher's place, and a match minds its own mutex.
 type Host struct {
-	made  counter
-	rooms []atomic.Pointer[play.Match] // by the match's number; nil where there is none yet
+	made     counter
+	rooms    []atomic.Pointer[play.Match] // by the match's number; nil where there is none yet
+	came     counter
+	watchers [api.MaxWatchers]atomic.Pointer[play.Watcher] // by the watcher's number, likewise
 }
 
 // New makes a host (P4).
@@ -115,10 +117,27 @@ func (h *Host) Hash(match int, turn int) (string, api.Errno) {
 }
 
 // Watch begins to watch a match (P9).
-func (h *Host) Watch(match int) (int, api.Errno) { return 0, api.OK }
+func (h *Host) Watch(match int) (int, api.Errno) {
+	m := h.find(match)
+	if m == nil {
+		return 0, api.ErrMatch
+	}
+	number, ok := h.came.next(len(h.watchers))
+	if !ok {
+		return 0, api.ErrFull
+	}
+	h.watchers[number].Store(m.Watch())
+	return number, api.OK
+}
 
 // Poll tells turns (P9).
-func (h *Host) Poll(watcher int, most int) (string, api.Errno) { return "", api.OK }
+func (h *Host) Poll(watcher int, most int) (string, api.Errno) {
+	w := h.findWatcher(watcher)
+	if w == nil {
+		return "", api.ErrWatch
+	}
+	return w.Poll(most)
+}
 
 // find: the match of this number, or nil.
 func (h *Host) find(match int) *play.Match {
@@ -126,6 +145,14 @@ func (h *Host) find(match int) *play.Match {
 		return nil
 	}
 	return h.rooms[match].Load()
+}
+
+// findWatcher: the watcher of this number, or nil.
+func (h *Host) findWatcher(watcher int) *play.Watcher {
+	if watcher < 0 || watcher >= len(h.watchers) {
+		return nil
+	}
+	return h.watchers[watcher].Load()
 }
 
 // choose finds the matches of these numbers, or all if there are none; false, if a number is no match's or is there twice.

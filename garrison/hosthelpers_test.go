@@ -121,9 +121,30 @@ func checkPlayed(t *testing.T, what string, h *garrison.Host, match, seed, playe
 	}
 }
 
-// snapshot: all that can be seen of a host.
+// watch begins to watch, and must be given this number.
+func watch(t *testing.T, h *garrison.Host, match, want int) {
+	t.Helper()
+	if n, e := h.Watch(match); n != want || e != api.OK {
+		t.Fatalf("P9: Watch(%d): %d, %d, want %d", match, n, e, want)
+	}
+}
+
+// poll: the watcher is told these turns.
+func poll(t *testing.T, h *garrison.Host, watcher, most int, want ...string) {
+	t.Helper()
+	if got, e := h.Poll(watcher, most); got != strings.Join(want, "") || e != api.OK {
+		t.Errorf("P9: Poll(%d, %d): %x, %d, want %x", watcher, most, got, e, want)
+	}
+}
+
+// snapshot: all that can be seen of a host, but for the turns that its watchers have not seen.
 func snapshot(h *garrison.Host) string {
 	out := ""
+	for watcher := range api.MaxWatchers + 1 {
+		if told, e := h.Poll(watcher, 0); e != api.ErrWatch {
+			out += fmt.Sprintf("%d: %x %d, ", watcher, told, e)
+		}
+	}
 	for match := 0; ; match++ {
 		view, e := h.Look(match)
 		if e != api.OK {
@@ -193,6 +214,14 @@ func states(h *garrison.Host, match int) func() (any, api.Errno) {
 
 func hashes(h *garrison.Host, match, turn int) func() (any, api.Errno) {
 	return func() (any, api.Errno) { return pair(h.Hash(match, turn)) }
+}
+
+func watches(h *garrison.Host, match int) func() (any, api.Errno) {
+	return func() (any, api.Errno) { return pair(h.Watch(match)) }
+}
+
+func polls(h *garrison.Host, watcher, most int) func() (any, api.Errno) {
+	return func() (any, api.Errno) { return pair(h.Poll(watcher, most)) }
 }
 
 func pair[T any](value T, e api.Errno) (any, api.Errno) { return value, e }

@@ -1,6 +1,7 @@
 package garrison_test
 
 import (
+	"math"
 	"strings"
 	"testing"
 
@@ -22,10 +23,17 @@ type table struct {
 	sealed        []string
 }
 
+// onlooker is a watcher once more.
+type onlooker struct {
+	table *table
+	seen  int // up to which turn
+}
+
 // hall is a host once more.
 type hall struct {
-	rooms  int
-	tables []*table
+	rooms     int
+	tables    []*table
+	onlookers []*onlooker
 }
 
 func (b *table) bytes() string { return strings.Join(b.sealed, "") }
@@ -166,10 +174,56 @@ func (a *hall) tick(matches []int) api.Errno {
 	return api.OK
 }
 
+func (a *hall) watch(b *table) (int, api.Errno) {
+	if b == nil {
+		return 0, api.ErrMatch
+	}
+	if len(a.onlookers) == 20 {
+		return 0, api.ErrFull
+	}
+	a.onlookers = append(a.onlookers, &onlooker{b, len(b.sealed)})
+	return len(a.onlookers) - 1, api.OK
+}
+
+func (a *hall) poll(watcher, most int) (string, api.Errno) {
+	if watcher < 0 || watcher >= len(a.onlookers) {
+		return "", api.ErrWatch
+	}
+	o := a.onlookers[watcher]
+	left := o.table.sealed[o.seen:]
+	switch {
+	case most < 0:
+		return "", api.ErrArg
+	case len(left) == 0 && o.table.phase() == 3:
+		return "", api.ErrOver
+	case most < len(left):
+		left = left[:most]
+	}
+	o.seen += len(left)
+	return strings.Join(left, ""), api.OK
+}
+
+// playWatch throws a call of those who watch.
+func (a *hall) playWatch(t *testing.T, h *garrison.Host, d *dice, match int, b *table) (string, api.Errno) {
+	t.Helper()
+	if d.below(4) == 0 {
+		want, e := a.watch(b)
+		got, f := h.Watch(match)
+		return same(t, "Watch", got, want, f, e)
+	}
+	watcher, most := d.below(len(a.onlookers)+2)-1, d.below(6)-1
+	if d.below(8) == 0 {
+		most = math.MaxInt
+	}
+	want, e := a.poll(watcher, most)
+	got, f := h.Poll(watcher, most)
+	return same(t, "Poll", got, want, f, e)
+}
+
 // play throws one call at both, and answers the name of the call and what it answered.
 func (a *hall) play(t *testing.T, h *garrison.Host, d *dice) (string, api.Errno) {
 	t.Helper()
-	call, match, name := d.below(16), d.below(len(a.tables)+1), d.guest()
+	call, match, name := d.below(21), d.below(len(a.tables)+1), d.guest()
 	if d.below(40) == 0 {
 		match = -1
 	}
@@ -178,6 +232,8 @@ func (a *hall) play(t *testing.T, h *garrison.Host, d *dice) (string, api.Errno)
 		b = a.tables[match]
 	}
 	switch {
+	case call >= 16:
+		return a.playWatch(t, h, d, match, b)
 	case call == 0:
 		seed, players := d.below(1010)-5, 1+d.below(5)
 		want, e := a.create(seed, players)
@@ -216,10 +272,10 @@ func (a *hall) play(t *testing.T, h *garrison.Host, d *dice) (string, api.Errno)
 	return same(t, "Submit", 0, 0, h.Submit(match, name, seq, bytes), e)
 }
 
-func same(t *testing.T, call string, got, want int, f, e api.Errno) (string, api.Errno) {
+func same[T comparable](t *testing.T, call string, got, want T, f, e api.Errno) (string, api.Errno) {
 	t.Helper()
 	if got != want || f != e {
-		t.Fatalf("%s: %d, %d, want %d, %d", call, got, f, want, e)
+		t.Fatalf("%s: %v, %d, want %v, %d", call, got, f, want, e)
 	}
 	return call, e
 }
@@ -280,11 +336,11 @@ func (a *hall) check(t *testing.T, h *garrison.Host) {
 // TestHostAgainstModel: thrown calls are answered, and change what is seen, as the model says.
 func TestHostAgainstModel(t *testing.T) {
 	seen := map[string]int{}
-	for n := range 40 {
+	for n := range 60 {
 		d := dice(5000 + n)
 		a := &hall{rooms: 1 + n%8}
 		h := newHost(t, a.rooms)
-		for range 700 {
+		for range 900 {
 			call, e := a.play(t, h, &d)
 			seen[call+" "+string(rune('0'+e))]++
 			a.check(t, h)
@@ -293,8 +349,13 @@ func TestHostAgainstModel(t *testing.T) {
 			checkPlayed(t, "thrown calls", h, m, b.seed, b.players, b.sealed...)
 			seen["over"] += b.phase() / 3
 		}
+		for w := range 21 {
+			want, e := a.poll(w, 1000)
+			got, f := h.Poll(w, 1000)
+			same(t, "Poll of what is left", got, want, f, e)
+		}
 	}
-	for _, word := range strings.Split("Create 0,Create 1,Create 7,Tick 0,Tick 1,Join 0,Join 2,Join 3,Join 4,Leave 0,Leave 2,Leave 3,Leave 4,Pause 0,Pause 2,Pause 3,Pause 4,Submit 0,Submit 2,Submit 3,Submit 4,Submit 5,Submit 6,Submit 7,over", ",") {
+	for _, word := range strings.Split("Create 0,Create 1,Create 7,Tick 0,Tick 1,Join 0,Join 2,Join 3,Join 4,Leave 0,Leave 2,Leave 3,Leave 4,Pause 0,Pause 2,Pause 3,Pause 4,Submit 0,Submit 2,Submit 3,Submit 4,Submit 5,Submit 6,Submit 7,Watch 0,Watch 2,Watch 7,Poll 0,Poll 1,Poll 8,Poll 9,over", ",") {
 		if seen[word] < 10 {
 			t.Errorf("the thrown calls show too little of %q: %v", word, seen)
 		}

@@ -99,7 +99,7 @@ func TestNoSuchMatch(t *testing.T) {
 			leaves(h, m, "ann"), leaves(h, m, ""),
 			pauses(h, m, "ann", true), pauses(h, m, "", true),
 			submits(h, m, "ann", 1, bytesOf("0 2 1 2 2")), submits(h, m, "", 0, ""),
-			looks(h, m), states(h, m), hashes(h, m, 0), hashes(h, m, -1))
+			looks(h, m), states(h, m), hashes(h, m, 0), hashes(h, m, -1), watches(h, m))
 		refuses(t, what, h, api.ErrArg, ticks(h, m))
 	}
 }

@@ -1,6 +1,7 @@
 package garrison_test
 
 import (
+	"fmt"
 	"strings"
 	"testing"
 
@@ -209,26 +210,24 @@ func TestFoldAgainstModel(t *testing.T) {
 	}
 }
 
-// TestWorth: gold and ore are spent on units, and on nothing else.
+// TestWorth: gold and ore behind every turn of thrown matches.
 func TestWorth(t *testing.T) {
 	for n := range 30 {
 		d := dice(1000 + n)
 		seed, players := d.below(1000), 2+n%3
-		m, bytes := newModel(seed, players), ""
-		ahead := fold(t, seed, players, "")
+		m := newModel(seed, players)
+		list, states := []string{}, []string{m.bytes()}
 		for len(m.bases()) > 1 && m.turn < 60 {
 			var orders []order
 			for range 20 {
 				orders = append(orders, m.throw(&d))
 			}
-			hired, trained := m.did["hire"], m.did["train"]
 			m.do(orders)
-			bytes += turn(orders...)
-			behind := fold(t, seed, players, bytes)
-			if spent := 2*(m.did["hire"]-hired) + 3*(m.did["train"]-trained); ahead.worth()-behind.worth() != spent {
-				t.Fatalf("match %d, turn %d: %d, then %d, but %d was spent", n, m.turn, ahead.worth(), behind.worth(), spent)
-			}
-			ahead = behind
+			list = append(list, turn(orders...))
+			state, _, e := garrison.Fold(seed, players, strings.Join(list, ""))
+			must(t, "P3: Fold", e)
+			states = append(states, state)
 		}
+		checkWorth(t, fmt.Sprint("match ", n), seed, players, list, states)
 	}
 }

@@ -14,10 +14,11 @@ import (
 // Match is a match with its players. Each of its methods holds its mutex, so that any number of them may be called at once.
 type Match struct {
 	sync.Mutex
-	state  *rules.State
-	hashes []string  // of the states, by turn
-	seats  []*player // by number; nil where no one is there
-	paused bool
+	state    *rules.State
+	hashes   []string  // of the states, by turn
+	seats    []*player // by number; nil where no one is there
+	paused   bool
+	watchers []*Watcher
 }
 
 // New makes a match that is open, of a seed and so many players as may be.
@@ -96,7 +97,9 @@ func (m *Match) Tick() {
 	if m.phase() != api.Goes || m.paused || m.state.Turn() >= api.MaxTurns {
 		return
 	}
-	m.state.Do(m.seal())
+	turn := m.seal()
+	m.tell(wire.WriteTurn(turn...))
+	m.state.Do(turn)
 	m.keepHash()
 }
 
@@ -131,6 +134,15 @@ func (m *Match) Hash(turn int) (string, api.Errno) {
 	return m.hashes[turn], api.OK
 }
 
+// Watch lets someone watch the turns that are sealed from now on.
+func (m *Match) Watch() *Watcher {
+	m.Lock()
+	defer m.Unlock()
+	w := &Watcher{match: m}
+	m.watchers = append(m.watchers, w)
+	return w
+}
+
 func (m *Match) phase() int {
 	switch {
 	case m.freeSeat() >= 0:
@@ -161,6 +173,13 @@ func (m *Match) seal() []wire.Command {
 		turn = append(turn, p.handOver()...)
 	}
 	return turn
+}
+
+// tell lets all who watch have a sealed turn; no one else will ask for it, so the match keeps none.
+func (m *Match) tell(turn string) {
+	for _, w := range m.watchers {
+		w.unseen = append(w.unseen, turn)
+	}
 }
 
 func (m *Match) keepHash() {

@@ -70,9 +70,11 @@ func TestNameIsCopied(t *testing.T) {
 // TestHeld: while the mutex is held no call touches the match; each answers when it is free again.
 func TestHeld(t *testing.T) {
 	m := pairOf(t)
+	w := m.Watch()
 	calls := []func(){
 		func() { m.Join("c") }, func() { m.Leave("a") }, func() { m.Pause("a", false) }, func() { m.Submit("b", 1, "\x01\x04\x01\x05\x05") },
 		m.Tick, func() { m.Look() }, func() { m.State() }, func() { m.Hash(0) },
+		func() { m.Watch() }, func() { w.Poll(1) }, func() { w.Poll(1) },
 	}
 	for k, call := range calls {
 		done := make(chan int, 1)
@@ -93,5 +95,46 @@ func TestHeld(t *testing.T) {
 			t.Fatalf("Ways: call %d holds the mutex on", k)
 		}
 		m.Unlock()
+	}
+}
+
+// TestSeenIsKeptNoLonger: of the turns nothing is kept but what someone has yet to see.
+func TestSeenIsKeptNoLonger(t *testing.T) {
+	m := pairOf(t)
+	m.Tick()
+	one, two := m.Watch(), m.Watch()
+	for range 5 {
+		m.Tick()
+	}
+	one.Poll(3)
+	two.Poll(9)
+	if len(one.unseen) != 2 || len(two.unseen) != 0 {
+		t.Errorf("P9: unseen: %q, %q", one.unseen, two.unseen)
+	}
+	for _, w := range []*Watcher{one, two} {
+		if spare := w.unseen[len(w.unseen):cap(w.unseen)]; slices.ContainsFunc(spare, func(s string) bool { return s != "" }) {
+			t.Errorf("what was seen is kept: %q", spare)
+		}
+	}
+}
+
+// TestWatchersShareNothing: a turn is sealed once; what one watcher is told leaves the others' as it is.
+func TestWatchersShareNothing(t *testing.T) {
+	m := pairOf(t)
+	list := []*Watcher{m.Watch(), m.Watch(), m.Watch()}
+	for seq := 1; seq <= 6; seq++ {
+		m.Submit("a", seq, string([]byte{0, byte(seq), 1, 2, 3}))
+		m.Tick()
+		list[0].Poll(1)
+		list[1].Poll(seq % 2)
+	}
+	for k, from := range []int{7, 4, 1} {
+		want := ""
+		for seq := from; seq <= 6; seq++ {
+			want += string([]byte{1, 0, byte(seq), 1, 2, 3})
+		}
+		if got, e := list[k].Poll(10); got != want || e != api.OK {
+			t.Errorf("P9: watcher %d: %x, %d, want %x", k, got, e, want)
+		}
 	}
 }

@@ -38,6 +38,16 @@ func ReadCommand(text string) (Command, bool) {
 	return readCommand(text), true
 }
 
+// WriteTurn tells the bytes of the turn that has these commands.
+func WriteTurn(commands ...Command) string {
+	var w Writer
+	w.One(len(commands))
+	for _, c := range commands {
+		w.One(c.Player, c.Unit, c.What, c.X, c.Y)
+	}
+	return w.Text()
+}
+
 func readCommands(text string) []Command {
 	var list []Command
 	for at := 0; at < len(text); at += commandSize {

@@ -70,6 +70,28 @@ func TestReadTurns(t *testing.T) {
 	}
 }
 
+func TestWriteTurn(t *testing.T) {
+	a, b := Command{Player: 1, Unit: 2, What: 3, X: 4, Y: 5}, Command{Player: 255, Unit: 254, What: 253, X: 252, Y: 251}
+	for _, c := range []struct {
+		commands []Command
+		want     string
+	}{
+		{nil, "\x00"},
+		{[]Command{{}}, "\x01\x00\x00\x00\x00\x00"},
+		{[]Command{{Player: 3}}, "\x01\x03\x00\x00\x00\x00"},
+		{[]Command{a}, "\x01\x01\x02\x03\x04\x05"},
+		{[]Command{a, b, a}, "\x03\x01\x02\x03\x04\x05\xff\xfe\xfd\xfc\xfb\x01\x02\x03\x04\x05"},
+		{slices.Repeat([]Command{b}, api.MaxTurn), "\x24" + strings.Repeat("\xff\xfe\xfd\xfc\xfb", api.MaxTurn)},
+	} {
+		if got := WriteTurn(c.commands...); got != c.want {
+			t.Errorf("Words: the bytes of %v: %x, want %x", c.commands, got, c.want)
+		}
+		if turns, ok := ReadTurns(c.want + c.want); !ok || len(turns) != 2 || !slices.Equal(turns[0], c.commands) || !slices.Equal(turns[1], c.commands) {
+			t.Errorf("Words: %v read again: %v, %t", c.commands, turns, ok)
+		}
+	}
+}
+
 func TestReadTurnsBounds(t *testing.T) {
 	full := "\x24" + strings.Repeat("12345", api.MaxTurn)
 	for _, c := range []struct {

@@ -1,7 +1,7 @@
 // Package wire: how states and turns stand as bytes.
 package wire
 
-// Writer gathers the bytes of a state.
+// Writer gathers the bytes of a state or of a turn.
 type Writer struct {
 	out []byte
 }
